@@ -77,10 +77,11 @@ func Float(a float64) []byte {
 
 // ReadFloat reads a float.
 func ReadFloat(b []byte, at int) (a float64, next int, e api.Errno) {
-	if _, e := from(b, at); e != api.OK {
+	left, e := from(b, at)
+	if e != api.OK {
 		return 0, 0, e
 	}
-	eight, e := piece(b, at, floatBytes)
+	eight, e := piece(left, 0, floatBytes)
 	if e != api.OK {
 		return 0, 0, e
 	}
